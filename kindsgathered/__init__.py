@@ -1,0 +1,1 @@
+"""Kindsgathered: kinds gathered by draws."""

@@ -1,0 +1,50 @@
+"""Shares: a tuple that has for each kind in how many cases of a draw it comes."""
+
+from kindsgathered.errors import NoKind, NoShares
+from kindsgathered.fractions import lowest
+from kindsgathered.whole import is_whole_within
+
+MOST_KINDS = 5
+MOST_SHARE = 9
+
+
+def is_shares(thing):
+    """Whether a thing of whatever kind is shares."""
+    if not isinstance(thing, tuple) or not 1 <= len(thing) <= MOST_KINDS:
+        return False
+    return all([is_whole_within(share, 1, MOST_SHARE) for share in thing])
+
+
+def check_shares(thing):
+    """Refuse what is no shares."""
+    if not is_shares(thing):
+        raise NoShares("this is not shares")
+
+
+def is_some_kinds(thing, shares):
+    """Whether a thing of whatever kind is some kinds of these shares."""
+    if not isinstance(thing, tuple):
+        return False
+    # All are seen to be numbers before any two are compared: other things may have no order.
+    if not all([is_whole_within(kind, 0, len(shares) - 1) for kind in thing]):
+        return False
+    return all([one < other for one, other in zip(thing, thing[1:])])
+
+
+def check_some_kinds(thing, shares):
+    """Refuse what is not some kinds of these shares."""
+    if not is_some_kinds(thing, shares):
+        raise NoKind("this is not some kinds of the shares")
+
+
+def total(shares):
+    """How many cases a draw has."""
+    check_shares(shares)
+    return sum(shares)
+
+
+def part(shares, some):
+    """The fraction of the total that some kinds have."""
+    check_shares(shares)
+    check_some_kinds(some, shares)
+    return lowest(sum([shares[kind] for kind in some]), sum(shares))

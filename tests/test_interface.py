@@ -1,0 +1,47 @@
+"""The interface: names, the files that define them, and their arguments by place."""
+
+import ast
+import pathlib
+import unittest
+
+import kindsgathered
+
+FOLDER = pathlib.Path(kindsgathered.__file__).parent
+
+FUNCTIONS = {
+    "fractions.py": {
+        "is_fraction": ["thing"], "lowest": ["top", "bottom"], "added": ["one", "other"],
+        "lessened": ["one", "other"], "multiplied": ["one", "other"], "is_less": ["one", "other"],
+    },
+    "shares.py": {"is_shares": ["thing"], "total": ["shares"], "part": ["shares", "some"]},
+}
+
+CLASSES = {
+    "errors.py": [
+        "GatherError", "NoShares", "NoKind", "NoNumber", "NoNeeds", "NoPlan", "TooMany", "NoLine", "NoText"],
+}
+
+
+def defined(name, kind):
+    tree = ast.parse((FOLDER / name).read_text(encoding="ascii"))
+    return {node.name: node for node in tree.body if isinstance(node, kind)}
+
+
+class Interface(unittest.TestCase):
+
+    def test_functions_are_defined_where_they_are_listed(self):
+        for name, wanted in FUNCTIONS.items():
+            found = defined(name, ast.FunctionDef)
+            for function, places in wanted.items():
+                self.assertIn(function, found)
+                self.assertEqual([arg.arg for arg in found[function].args.args], places, function)
+
+    def test_classes_are_defined_where_they_are_listed(self):
+        for name, wanted in CLASSES.items():
+            found = defined(name, ast.ClassDef)
+            for each in wanted:
+                self.assertIn(each, found)
+
+
+if __name__ == "__main__":
+    unittest.main()
