@@ -37,6 +37,24 @@ def check_some_kinds(thing, shares):
         raise NoKind("this is not some kinds of the shares")
 
 
+def all_kinds(shares):
+    """All kinds of these shares."""
+    return tuple(range(len(shares)))
+
+
+def all_some(kinds):
+    """Each some kinds of these kinds; each stands behind all that are within it."""
+    found = [()]
+    for kind in kinds:
+        found = found + [some + (kind,) for some in found]
+    return found
+
+
+def share_of(shares, some):
+    """In how many cases a draw brings one of some kinds."""
+    return sum([shares[kind] for kind in some])
+
+
 def total(shares):
     """How many cases a draw has."""
     check_shares(shares)
@@ -47,4 +65,4 @@ def part(shares, some):
     """The fraction of the total that some kinds have."""
     check_shares(shares)
     check_some_kinds(some, shares)
-    return lowest(sum([shares[kind] for kind in some]), sum(shares))
+    return lowest(share_of(shares, some), sum(shares))

@@ -14,6 +14,15 @@ FUNCTIONS = {
         "lessened": ["one", "other"], "multiplied": ["one", "other"], "is_less": ["one", "other"],
     },
     "shares.py": {"is_shares": ["thing"], "total": ["shares"], "part": ["shares", "some"]},
+    "texts.py": {"show": ["shares"], "read": ["text"]},
+    "coming.py": {
+        "just_cases": ["shares", "some", "number"], "all_share": ["shares", "number"],
+        "last_share": ["shares", "number"], "lacking": ["shares", "number"], "mean_all": ["shares"],
+    },
+    "papers.py": {
+        "is_time_paper": ["thing", "shares"], "time_paper": ["shares"], "over_bound": ["thing", "shares"],
+        "under_bound": ["thing", "shares"],
+    },
 }
 
 CLASSES = {

@@ -47,6 +47,10 @@ def bound_names(path):
     return found
 
 
+def imported_files(path):
+    return {node.module.split(".")[1] for node in nodes(path) if isinstance(node, ast.ImportFrom)}
+
+
 class Language(unittest.TestCase):
 
     def test_the_folder_has_nothing_but_plain_files(self):
@@ -81,6 +85,27 @@ class Language(unittest.TestCase):
                     self.assertTrue(node.module.startswith("kindsgathered."), (path, node.module))
                     source = FOLDER / (node.module.split(".")[1] + ".py")
                     self.assertLessEqual({alias.name for alias in node.names}, bound_names(source))
+
+    def test_no_two_files_import_from_each_other(self):
+        ahead = {path.stem: imported_files(path) for path in files()}
+        for step in range(len(ahead)):
+            ahead = {name: found.union(*[ahead[other] for other in found]) for name, found in ahead.items()}
+        for name, found in ahead.items():
+            self.assertNotIn(name, found)
+
+    def test_no_other_thing_has_the_name_of_an_import_or_a_class(self):
+        for path in files():
+            kept = {node.name for node in nodes(path) if isinstance(node, (ast.ClassDef, ast.alias))}
+            others = {node.arg for node in nodes(path) if isinstance(node, ast.arg)}
+            others |= {
+                node.id for node in nodes(path) if isinstance(node, ast.Name) and isinstance(node.ctx, ast.Store)}
+            self.assertEqual(kept & others, set(), path)
+
+    def test_exponents_are_written_out(self):
+        for path in files():
+            for node in nodes(path):
+                if isinstance(node, ast.BinOp) and isinstance(node.op, ast.Pow):
+                    self.assertIsInstance(node.right, ast.Constant, path)
 
     def test_barred_statements_and_floats(self):
         for path in files():

@@ -7,39 +7,17 @@ from fractions import Fraction
 from kindsgathered.errors import NoKind, NoShares
 from kindsgathered.fractions import added, is_fraction, lessened
 from kindsgathered.shares import is_shares, part, total
-from tests.things import BIG, NEVER, assert_refused, assert_told
-
-RIGHT = [
-    (1,), (9,), (5,), (1, 1), (1, 9), (9, 1), (3, 1, 1), (1, 2, 3), (3, 2, 1), (4, 4, 4), (1, 2, 3, 4), (9, 9, 9, 9),
-    (1, 1, 1, 1, 1), (9, 9, 9, 9, 9), (1, 2, 3, 4, 5), (9, 1, 9, 1, 9),
-]
-
-WRONG = [
-    0, 1, 5, -1, BIG, (), (0,), (10,), (-1,), (BIG,), (-BIG,), (1, 0), (0, 1), (1, 10), (10, 1), (1, -1), (3, 1, 0),
-    (3, 10, 1), (1, 1, 1, 1, 0), (1, 1, 1, 1, 10), (1, 1, 1, 1, 1, 1), (9, 9, 9, 9, 9, 9), (1,) * 7, (1,) * 60, (0,) * 5,
-]
-
-NOT_KINDS_OF_THREE = [
-    0, 1, 2, 3, -1, BIG, (3,), (4,), (-1,), (BIG,), (-BIG,), (0, 3), (-1, 0), (0, 1, 3), (-1, 0, 1), (0, 1, 2, 3),
-    (0, 0), (1, 1), (2, 2), (0, 0, 1), (0, 1, 1), (0, 1, 2, 2), (1, 0), (2, 1), (2, 0), (0, 2, 1), (1, 0, 2), (2, 1, 0),
-    [0, 1], [0, 1, 2], [2], {0: True, 1: True}, (0, True), (False, 1), (False, True), (0, 1, "2"), ((0, 1),), (0, (1,)),
-    "0 1", "01",
-]
-
-
-def all_some(shares):
-    kinds = range(len(shares))
-    return [some for many in range(len(shares) + 1) for some in itertools.combinations(kinds, many)]
+from tests.things import BIG, NOT_KINDS_OF_THREE, NOT_SHARES, SHARES, all_some, assert_refused, assert_told, pair
 
 
 class IsShares(unittest.TestCase):
 
     def test_right_ones(self):
-        for thing in RIGHT:
+        for thing in SHARES:
             assert_told(self, True, is_shares, thing)
 
     def test_wrong_ones(self):
-        for thing in WRONG + NEVER:
+        for thing in NOT_SHARES:
             assert_told(self, False, is_shares, thing)
 
     def test_all_of_up_to_three(self):
@@ -57,7 +35,7 @@ class IsShares(unittest.TestCase):
                     assert_told(self, False, is_shares, thing)
 
     def test_a_list_is_none(self):
-        for thing in RIGHT:
+        for thing in SHARES:
             assert_told(self, False, is_shares, list(thing))
 
 
@@ -69,11 +47,11 @@ class Total(unittest.TestCase):
         assert_told(self, 45, total, (9, 9, 9, 9, 9))
 
     def test_right_ones(self):
-        for shares in RIGHT:
+        for shares in SHARES:
             assert_told(self, sum(shares), total, shares)
 
     def test_no_shares(self):
-        for thing in WRONG + NEVER:
+        for thing in NOT_SHARES:
             assert_refused(self, NoShares, total, thing)
 
 
@@ -87,18 +65,18 @@ class Part(unittest.TestCase):
         assert_told(self, (1, 2), part, (1, 2, 3), (2,))
 
     def test_no_kinds_and_all_kinds(self):
-        for shares in RIGHT:
+        for shares in SHARES:
             assert_told(self, (0, 1), part, shares, ())
             assert_told(self, (1, 1), part, shares, tuple(range(len(shares))))
 
     def test_all_some_kinds(self):
-        for shares in RIGHT:
+        for shares in SHARES:
             for some in all_some(shares):
                 worth = Fraction(sum(shares[kind] for kind in some), sum(shares))
-                assert_told(self, (worth.numerator, worth.denominator), part, shares, some)
+                assert_told(self, pair(worth), part, shares, some)
 
     def test_some_and_the_others_make_the_whole(self):
-        for shares in RIGHT:
+        for shares in SHARES:
             for some in all_some(shares):
                 others = tuple(kind for kind in range(len(shares)) if kind not in some)
                 told = part(shares, some)
@@ -107,12 +85,12 @@ class Part(unittest.TestCase):
                 self.assertEqual(lessened((1, 1), told), part(shares, others))
 
     def test_no_shares(self):
-        for thing in WRONG + NEVER:
+        for thing in NOT_SHARES:
             assert_refused(self, NoShares, part, thing, ())
             assert_refused(self, NoShares, part, thing, (0,))
 
     def test_no_kind(self):
-        for thing in NOT_KINDS_OF_THREE + NEVER:
+        for thing in NOT_KINDS_OF_THREE:
             assert_refused(self, NoKind, part, (3, 1, 1), thing)
 
     def test_all_tuples_that_are_not_some_kinds(self):
@@ -124,13 +102,13 @@ class Part(unittest.TestCase):
                         assert_refused(self, NoKind, part, shares, thing)
 
     def test_a_kind_that_is_not_there(self):
-        for shares in RIGHT:
+        for shares in SHARES:
             assert_refused(self, NoKind, part, shares, (len(shares),))
             assert_refused(self, NoKind, part, shares, (-1,))
             assert_refused(self, NoKind, part, shares, tuple(range(len(shares) + 1)))
 
     def test_no_shares_goes_ahead_of_no_kind(self):
-        for shares, some in itertools.product(WRONG + NEVER, (None, True, [0], (9,), (1, 0), (-1,), "0", {})):
+        for shares, some in itertools.product(NOT_SHARES, (None, True, [0], (9,), (1, 0), (-1,), "0", {})):
             assert_refused(self, NoShares, part, shares, some)
 
 

@@ -1,6 +1,7 @@
 """Things of whatever kind, and how the tests ask about them."""
 
 import copy
+import itertools
 
 from kindsgathered.errors import (
     GatherError, NoKind, NoLine, NoNeeds, NoNumber, NoPlan, NoShares, NoText, TooMany)
@@ -21,6 +22,39 @@ NEVER = [
     (3, 1, True), (True, 1, 3), (3, 1, None), (3, "1", 1), (3, (1, 1)), (3, [1], 1), (0, 1, True), (0, 1, None),
     (0, 1, "2"), (0, (1,), 2), (BIG, "a"), (None, BIG), (-1, -2, -3, -4, -5, -6), (1, 2, 3, 4, 5, "6"),
 ]
+
+# Right shares, of one kind to five.
+SHARES = [
+    (1,), (9,), (5,), (1, 1), (1, 9), (9, 1), (3, 1, 1), (1, 2, 3), (3, 2, 1), (4, 4, 4), (1, 2, 3, 4), (9, 9, 9, 9),
+    (1, 1, 1, 1, 1), (9, 9, 9, 9, 9), (1, 2, 3, 4, 5), (9, 1, 9, 1, 9),
+]
+
+NOT_SHARES = NEVER + [
+    0, 1, 5, -1, BIG, (), (0,), (10,), (-1,), (BIG,), (-BIG,), (1, 0), (0, 1), (1, 10), (10, 1), (1, -1), (3, 1, 0),
+    (3, 10, 1), (1, 1, 1, 1, 0), (1, 1, 1, 1, 10), (1, 1, 1, 1, 1, 1), (9, 9, 9, 9, 9, 9), (1,) * 7, (1,) * 60, (0,) * 5,
+]
+
+# None of these is some kinds of three kinds.
+NOT_KINDS_OF_THREE = NEVER + [
+    0, 1, 2, 3, -1, BIG, (3,), (4,), (-1,), (BIG,), (-BIG,), (0, 3), (-1, 0), (0, 1, 3), (-1, 0, 1), (0, 1, 2, 3),
+    (0, 0), (1, 1), (2, 2), (0, 0, 1), (0, 1, 1), (0, 1, 2, 2), (1, 0), (2, 1), (2, 0), (0, 2, 1), (1, 0, 2), (2, 1, 0),
+    [0, 1], [0, 1, 2], [2], {0: True, 1: True}, (0, True), (False, 1), (False, True), (0, 1, "2"), ((0, 1),), (0, (1,)),
+    "0 1", "01",
+]
+
+# None of these is a number of draws.
+NOT_DRAWS = NEVER + [-1, -12, 13, 14, 100, BIG, -BIG, (0,), (1,), (12,), (0, 1), (12, 1)]
+
+
+def all_some(shares):
+    """Each some kinds of these shares."""
+    kinds = range(len(shares))
+    return [some for many in range(len(shares) + 1) for some in itertools.combinations(kinds, many)]
+
+
+def pair(worth):
+    """A Fraction of Python's own as this program writes it."""
+    return (worth.numerator, worth.denominator)
 
 
 def text_of(thing):
