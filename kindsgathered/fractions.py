@@ -3,6 +3,8 @@
 from kindsgathered.errors import NoNumber
 from kindsgathered.whole import is_whole
 
+NOUGHT = (0, 1)
+
 
 def greatest_divisor(top, bottom):
     """The greatest whole number that divides both; bottom is from 1 on."""
@@ -62,3 +64,15 @@ def is_less(one, other):
     """Whether the one is less than the other."""
     check_fractions(one, other)
     return one[0] * other[1] < other[0] * one[1]
+
+
+def mean_led(cases, ways):
+    """The mean number of steps still to come, by where a step leads.
+
+    A step has so many cases; each way is in how many of them it leads on, and the mean from there. In the other cases
+    all stays as it is. With 0 for the cases the steps are not counted, and it is the mean of what they lead to.
+    """
+    together = (cases, 1)
+    for many, mean in ways:
+        together = added(together, multiplied((many, 1), mean))
+    return multiplied(together, lowest(1, sum([many for many, mean in ways])))

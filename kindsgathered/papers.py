@@ -1,9 +1,7 @@
 """Papers by who is left: a dict that has a fraction for each some kinds."""
 
-from kindsgathered.fractions import added, is_fraction, is_less, lowest, multiplied
-from kindsgathered.shares import all_kinds, all_some, check_shares, is_some_kinds, share_of
-
-NOUGHT = (0, 1)
+from kindsgathered.fractions import NOUGHT, is_fraction, is_less, mean_led
+from kindsgathered.shares import all_kinds, all_some, check_shares, is_some_kinds
 
 
 def is_paper_number(thing):
@@ -38,10 +36,7 @@ def others_left(left, kind):
 
 def due_number(paper, shares, left):
     """The number that is due of some kinds that are left, by the paper's numbers of fewer."""
-    together = (sum(shares), 1)
-    for kind in left:
-        together = added(together, multiplied((shares[kind], 1), paper[others_left(left, kind)]))
-    return multiplied(together, lowest(1, share_of(shares, left)))
+    return mean_led(sum(shares), [(shares[kind], paper[others_left(left, kind)]) for kind in left])
 
 
 def is_time_paper(thing, shares):

@@ -21,12 +21,25 @@ def check_shares(thing):
         raise NoShares("this is not shares")
 
 
+def is_kind(thing, shares):
+    """Whether a thing of whatever kind is a kind of these shares."""
+    return is_whole_within(thing, 0, len(shares) - 1)
+
+
+def check_unlike_kinds(one, other, shares):
+    """Refuse what are not two unlike kinds of these shares."""
+    if not is_kind(one, shares):
+        raise NoKind("the first one is not a kind of the shares")
+    if not is_kind(other, shares) or other == one:
+        raise NoKind("the other one is not another kind of the shares")
+
+
 def is_some_kinds(thing, shares):
     """Whether a thing of whatever kind is some kinds of these shares."""
     if not isinstance(thing, tuple):
         return False
     # All are seen to be numbers before any two are compared: other things may have no order.
-    if not all([is_whole_within(kind, 0, len(shares) - 1) for kind in thing]):
+    if not all([is_kind(kind, shares) for kind in thing]):
         return False
     return all([one < other for one, other in zip(thing, thing[1:])])
 
@@ -35,6 +48,19 @@ def check_some_kinds(thing, shares):
     """Refuse what is not some kinds of these shares."""
     if not is_some_kinds(thing, shares):
         raise NoKind("this is not some kinds of the shares")
+
+
+def is_order(thing, shares):
+    """Whether a thing of whatever kind is a tuple of all kinds of these shares, each once."""
+    if not isinstance(thing, tuple) or not all([is_kind(kind, shares) for kind in thing]):
+        return False
+    return sorted(thing) == list(range(len(shares)))
+
+
+def check_order(thing, shares):
+    """Refuse what is not a tuple of all kinds of these shares, each once."""
+    if not is_order(thing, shares):
+        raise NoKind("this is not all kinds of the shares, each once")
 
 
 def all_kinds(shares):

@@ -23,6 +23,18 @@ FUNCTIONS = {
         "is_time_paper": ["thing", "shares"], "time_paper": ["shares"], "over_bound": ["thing", "shares"],
         "under_bound": ["thing", "shares"],
     },
+    "needs.py": {
+        "are_needs": ["thing", "shares"], "mean_needs": ["shares", "needs"],
+        "needs_share": ["shares", "needs", "number"], "mean_any": ["shares", "needs"],
+    },
+    "packs.py": {
+        "pack_many": ["many", "size"], "pack_cases": ["many", "size", "number"], "pack_mean": ["many", "size"],
+        "is_pack_paper": ["thing", "many", "size"], "pack_paper": ["many", "size"],
+    },
+    "orders.py": {
+        "order_chance": ["shares", "order"], "last_chances": ["shares"], "ahead_chance": ["shares", "one", "other"],
+        "unlike_share": ["shares", "number"], "twice_mean": ["shares"], "mean_kinds": ["shares", "number"],
+    },
 }
 
 CLASSES = {

@@ -42,6 +42,16 @@ NOT_KINDS_OF_THREE = NEVER + [
     "0 1", "01",
 ]
 
+# None of these is a kind of three kinds.
+NOT_A_KIND_OF_THREE = NEVER + [-1, -3, 3, 4, 9, BIG, -BIG, (), (0,), (1,), (2,), (0, 1, 2)]
+
+# None of these is a tuple of all of three kinds, each once.
+NOT_ORDERS_OF_THREE = NEVER + [
+    0, 1, 2, 3, -1, BIG, (), (0,), (2,), (0, 1), (2, 1), (0, 1, 3), (3, 2, 1), (-1, 0, 1), (0, 0, 1), (0, 1, 1), (2, 2, 2),
+    (0, 1, 2, 2), (0, 1, 2, 3), (0, 1, 2, 0), (BIG, 0, 1), [0, 1, 2], [2, 1, 0], {0: 0, 1: 1, 2: 2}, (0, True, 2),
+    (False, 1, 2), (2, True, False), ("0", "1", "2"), ((0, 1, 2),), ((0,), (1,), (2,)), "0 1 2", "012", (0, 1, [2]),
+]
+
 # None of these is a number of draws.
 NOT_DRAWS = NEVER + [-1, -12, 13, 14, 100, BIG, -BIG, (0,), (1,), (12,), (0, 1), (12, 1)]
 
