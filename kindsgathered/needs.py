@@ -6,7 +6,7 @@ from kindsgathered.shares import all_kinds, check_shares
 from kindsgathered.whole import check_whole_within, is_whole_within, power
 
 MOST_NEED = 3
-MOST_TOGETHER = 64
+MOST_MULTIPLIED = 64
 MOST_DRAWS_OF_NEEDS = 8
 
 
@@ -29,7 +29,7 @@ def check_not_too_many(needs):
     together = 1
     for need in needs:
         together *= need + 1
-    if together > MOST_TOGETHER:
+    if together > MOST_MULTIPLIED:
         raise TooMany("these needs are too many")
 
 

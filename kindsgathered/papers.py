@@ -9,17 +9,18 @@ def is_paper_number(thing):
     return is_fraction(thing) and not is_less(thing, NOUGHT)
 
 
-def is_by_some_kinds(thing, shares):
-    """Whether a thing of whatever kind is a dict that has something for each some kinds, and for nothing else."""
-    if not isinstance(thing, dict) or len(thing) != len(all_some(all_kinds(shares))):
+def is_by_some_kinds(thing, shares, least):
+    """Whether a thing of whatever kind is a dict that has something for each some kinds, so many or more, alone."""
+    wanted = [some for some in all_some(all_kinds(shares)) if len(some) >= least]
+    if not isinstance(thing, dict) or len(thing) != len(wanted):
         return False
     # The keys themselves are seen, not looked up: to a dict the key (True,) is the same as (1,).
-    return all([is_some_kinds(key, shares) for key in thing])
+    return all([is_some_kinds(key, shares) and len(key) >= least for key in thing])
 
 
 def is_paper(thing, shares):
     """Whether a thing of whatever kind is a paper of these shares."""
-    if not is_by_some_kinds(thing, shares):
+    if not is_by_some_kinds(thing, shares, 0):
         return False
     return all([is_paper_number(number) for number in thing.values()]) and thing[()] == NOUGHT
 

@@ -26,12 +26,18 @@ def is_kind(thing, shares):
     return is_whole_within(thing, 0, len(shares) - 1)
 
 
+def check_kind(thing, shares):
+    """Refuse what is no kind of these shares."""
+    if not is_kind(thing, shares):
+        raise NoKind("this is not a kind of the shares")
+
+
 def check_unlike_kinds(one, other, shares):
     """Refuse what are not two unlike kinds of these shares."""
-    if not is_kind(one, shares):
-        raise NoKind("the first one is not a kind of the shares")
-    if not is_kind(other, shares) or other == one:
-        raise NoKind("the other one is not another kind of the shares")
+    check_kind(one, shares)
+    check_kind(other, shares)
+    if other == one:
+        raise NoKind("the other kind is the first one")
 
 
 def is_some_kinds(thing, shares):

@@ -35,11 +35,25 @@ FUNCTIONS = {
         "order_chance": ["shares", "order"], "last_chances": ["shares"], "ahead_chance": ["shares", "one", "other"],
         "unlike_share": ["shares", "number"], "twice_mean": ["shares"], "mean_kinds": ["shares", "number"],
     },
+    "gatherers.py": {
+        "rounds_mean": ["shares", "many"], "together_mean": ["shares", "many"], "given_lacking": ["shares"],
+        "given_share": ["shares"],
+    },
+    "buying.py": {
+        "is_plan": ["thing", "shares"], "plan_cost": ["shares", "price", "plan"],
+        "is_cost_paper": ["thing", "shares", "price"], "cost_paper": ["shares", "price"],
+        "plan_for": ["shares", "price"],
+    },
+    "changes.py": {
+        "joined": ["shares", "one", "other"], "parted": ["shares", "kind", "number"],
+        "evened": ["shares", "one", "other"], "named": ["shares", "order"], "is_quicker": ["shares", "other"],
+    },
 }
 
 CLASSES = {
     "errors.py": [
         "GatherError", "NoShares", "NoKind", "NoNumber", "NoNeeds", "NoPlan", "TooMany", "NoLine", "NoText"],
+    "desk.py": ["Desk"],
 }
 
 
@@ -62,6 +76,12 @@ class Interface(unittest.TestCase):
             found = defined(name, ast.ClassDef)
             for each in wanted:
                 self.assertIn(each, found)
+
+    def test_methods_are_defined_in_their_class(self):
+        desk = defined("desk.py", ast.ClassDef)["Desk"]
+        methods = {node.name: node for node in desk.body if isinstance(node, ast.FunctionDef)}
+        self.assertEqual([arg.arg for arg in methods["__init__"].args.args], ["self"])
+        self.assertEqual([arg.arg for arg in methods["say"].args.args], ["self", "line"])
 
 
 if __name__ == "__main__":

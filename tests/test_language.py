@@ -15,6 +15,9 @@ BUILTINS = {
     "super",
 }
 
+# Methods of builtin values that the rules allow and the package has use for.
+METHODS = {"append", "count", "items", "join", "keys", "partition", "pop", "split", "values"}
+
 BARRED_WORDS = (
     "type", "typing", "typing_extensions", "enum", "Enum", "IntEnum", "StrEnum", "Flag", "IntFlag", "Generic",
     "Protocol", "ABC", "ABCMeta", "namedtuple", "NamedTuple", "TypedDict", "TYPE_CHECKING", "abstractmethod")
@@ -124,6 +127,19 @@ class Language(unittest.TestCase):
             self.assertEqual(own & BUILTINS, set(), path)
             read = {node.id for node in nodes(path) if isinstance(node, ast.Name)}
             self.assertLessEqual(read, own | BUILTINS, path)
+
+    def test_methods_and_attributes_are_known(self):
+        own, read = {"__init__"}, set()
+        for path in files():
+            for node in nodes(path):
+                if isinstance(node, ast.ClassDef):
+                    own |= {each.name for each in node.body if isinstance(each, ast.FunctionDef)}
+                elif isinstance(node, ast.Attribute) and isinstance(node.ctx, ast.Store):
+                    own.add(node.attr)
+                elif isinstance(node, ast.Attribute):
+                    read.add(node.attr)
+        self.assertLessEqual(read, own | METHODS)
+        self.assertEqual(own & METHODS, set())
 
     def test_no_percent_sign_in_a_string(self):
         for path in files():

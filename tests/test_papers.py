@@ -8,7 +8,9 @@ from kindsgathered.coming import mean_all
 from kindsgathered.errors import NoShares
 from kindsgathered.fractions import added, is_fraction, is_less, lessened, lowest
 from kindsgathered.papers import is_time_paper, over_bound, time_paper, under_bound
-from tests.things import BIG, NEVER, NOT_SHARES, SHARES, all_some, assert_refused, assert_told, pair
+from tests.things import (
+    BIG, KEYS_WITH_A_TRUTH, NEVER, NOT_SHARES, SHARES, all_kinds, all_some, assert_refused, assert_told, due, lefts, pair,
+    put, renamed, without)
 
 THREE = (3, 1, 1)
 
@@ -29,44 +31,6 @@ NOT_KEYS = [
     None, True, False, 0, 1, 7, -1, BIG, "", "0", "0 1", (3,), (-1,), (0, 3), (1, 0), (2, 1), (2, 1, 0), (0, 0), (0, 0, 1),
     (0, 1, 2, 3), (None,), ("0",), ((),), ((0,),), ((0, 1),), (0, (1,)), (0, "1"), (0, None), (BIG,),
 ]
-
-# The right key and what passes for it in a dict.
-KEYS_WITH_A_TRUTH = [
-    ((0,), (False,)), ((1,), (True,)), ((0, 1), (False, True)), ((0, 1), (0, True)), ((0, 1), (False, 1)),
-    ((0, 2), (False, 2)), ((1, 2), (True, 2)), ((0, 1, 2), (0, True, 2)), ((0, 1, 2), (False, 1, 2)),
-]
-
-
-def all_kinds(shares):
-    return tuple(range(len(shares)))
-
-
-def lefts(shares):
-    return [some for some in all_some(shares) if some]
-
-
-def put(paper, key, number):
-    """A paper told otherwise at one key."""
-    return {**paper, key: number}
-
-
-def without(paper, key):
-    return {each: paper[each] for each in paper if each != key}
-
-
-def renamed(paper, key, other):
-    """A paper with another key in the place of one."""
-    return {(other if each == key else each): paper[each] for each in paper}
-
-
-def due(paper, shares, left):
-    """The due number, by the words of [31]."""
-    together = Fraction(sum(shares))
-    for kind in left:
-        top, bottom = paper[tuple(other for other in left if other != kind)]
-        together += shares[kind] * Fraction(top, bottom)
-    return together / sum(shares[kind] for kind in left)
-
 
 def worth(number):
     return Fraction(*number)

@@ -2,6 +2,7 @@
 
 import copy
 import itertools
+from fractions import Fraction
 
 from kindsgathered.errors import (
     GatherError, NoKind, NoLine, NoNeeds, NoNumber, NoPlan, NoShares, NoText, TooMany)
@@ -55,11 +56,53 @@ NOT_ORDERS_OF_THREE = NEVER + [
 # None of these is a number of draws.
 NOT_DRAWS = NEVER + [-1, -12, 13, 14, 100, BIG, -BIG, (0,), (1,), (12,), (0, 1), (12, 1)]
 
+# A right key of a paper or a plan, and what passes for it in a dict.
+KEYS_WITH_A_TRUTH = [
+    ((0,), (False,)), ((1,), (True,)), ((0, 1), (False, True)), ((0, 1), (0, True)), ((0, 1), (False, 1)),
+    ((0, 2), (False, 2)), ((1, 2), (True, 2)), ((0, 1, 2), (0, True, 2)), ((0, 1, 2), (False, 1, 2)),
+]
+
 
 def all_some(shares):
     """Each some kinds of these shares."""
     kinds = range(len(shares))
     return [some for many in range(len(shares) + 1) for some in itertools.combinations(kinds, many)]
+
+
+def all_kinds(shares):
+    return tuple(range(len(shares)))
+
+
+def lefts(shares):
+    """Each some kinds of these shares, one or more."""
+    return [some for some in all_some(shares) if some]
+
+
+def without_kind(left, kind):
+    return tuple(other for other in left if other != kind)
+
+
+def put(paper, key, number):
+    """A paper or a plan told otherwise at one key."""
+    return {**paper, key: number}
+
+
+def without(paper, key):
+    return {each: paper[each] for each in paper if each != key}
+
+
+def renamed(paper, key, other):
+    """A paper or a plan with another key in the place of one."""
+    return {(other if each == key else each): paper[each] for each in paper}
+
+
+def due(paper, shares, left):
+    """The due number, by the words of [31]."""
+    together = Fraction(sum(shares))
+    for kind in left:
+        top, bottom = paper[without_kind(left, kind)]
+        together += shares[kind] * Fraction(top, bottom)
+    return together / sum(shares[kind] for kind in left)
 
 
 def pair(worth):
